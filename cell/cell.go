@@ -15,16 +15,28 @@ type Cell struct {
 	Held []int64
 }
 
-// Idle: does it tell no more than the empty one, at a clock? A rate holds
-// nothing, and a semaphore's TAT is 0: both may be asked of each.
-func (c Cell) Idle(now int64) bool {
-	return c.TAT <= now && len(c.Held) == 0
+// Idle: does it tell no more than the empty one, at a clock?
+func (c Cell) Idle(now int64) bool { return c.IdleFrom() <= now }
+
+// IdleFrom is the first clock at which it is idle, or Never. A rate holds nothing,
+// and a semaphore's TAT is 0: both may be asked of each.
+func (c Cell) IdleFrom() int64 {
+	if len(c.Held) > 0 {
+		return Never
+	}
+	return c.TAT
 }
+
+// Never is above all clocks.
+const Never int64 = api.Max + 1
+
+// Free: how many permits of the semaphore p are not held.
+func (c Cell) Free(p api.Policy) int64 { return free(c.sema(p)) }
 
 // Do is a call on an identity, which stands under the policy p and has the cell
 // c: the reply, the cell behind it, and whether that must be put in the place of
-// c. The call, now and serial are in order, and the call is neither an Evict nor a
-// Split.
+// c. The call is in order, and neither an Evict nor a Split. (A now that is no tick,
+// or a serial that is none, is ErrArg to those who look at it.)
 func Do(p api.Policy, c Cell, call api.Call, now, serial int64) (api.Reply, Cell, bool) {
 	switch {
 	case call.Op == api.OpAllow:
@@ -36,7 +48,7 @@ func Do(p api.Policy, c Cell, call api.Call, now, serial int64) (api.Reply, Cell
 		s, fault := perm.Give(c.sema(p), call.N)
 		return held(s, 0, fault)
 	case p.Kind == api.KindSema:
-		return api.Reply{Left: free(c.sema(p))}, c, false
+		return api.Reply{Left: c.Free(p)}, c, false
 	}
 	return peek(p.Limit, c, now), c, false
 }

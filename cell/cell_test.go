@@ -29,6 +29,54 @@ func TestIdle(t *testing.T) {
 		if got := c.cell.Idle(c.now); got != c.want {
 			t.Error(c, got)
 		}
+		if got := c.cell.IdleFrom(); got <= c.now != c.want {
+			t.Error(c, got)
+		}
+	}
+}
+
+func TestIdleFrom(t *testing.T) {
+	for _, c := range []struct {
+		cell Cell
+		want int64
+	}{
+		{Cell{}, 0},
+		{Cell{TAT: 7}, 7},
+		{Cell{TAT: api.Max}, api.Max},
+		{Cell{Held: []int64{1}}, Never},
+	} {
+		if got := c.cell.IdleFrom(); got != c.want {
+			t.Error(c, got)
+		}
+	}
+	if Never <= api.Max {
+		t.Error("there is such a clock")
+	}
+}
+
+func TestFree(t *testing.T) {
+	for _, c := range []struct {
+		permits int
+		held    []int64
+		want    int64
+	}{{2, nil, 2}, {2, []int64{9}, 1}, {2, []int64{3, 9}, 0}, {64, []int64{3, 9}, 62}, {1, []int64{3}, 0}} {
+		if got := (Cell{Held: c.held}).Free(api.Policy{Kind: api.KindSema, Permits: c.permits}); got != c.want {
+			t.Error(c, got)
+		}
+	}
+}
+
+// Where now or the serial is none, that is what is answered.
+func TestDoOfNoNumber(t *testing.T) {
+	for _, n := range []int64{-1, api.Max + 1} {
+		for _, call := range []api.Call{{Op: api.OpAllow, N: 1}, {Op: api.OpAllow}, {Op: api.OpPeek}} {
+			if r, _, changed := Do(aRate, Cell{}, call, n, 5); r != (api.Reply{E: api.ErrArg}) || changed {
+				t.Error(n, call, r, changed)
+			}
+		}
+		if r, _, changed := Do(aSema, Cell{}, api.Call{Op: api.OpAcquire}, 0, n); r != (api.Reply{E: api.ErrArg}) || changed {
+			t.Error(n, r, changed)
+		}
 	}
 }
 

@@ -5,15 +5,20 @@ package cut
 
 import (
 	"spigot/api"
+	"spigot/hash"
 	"spigot/mach"
 )
 
 // Shards are the words of a directory.
 type Shards[V any] struct {
-	words  *mach.Mach    // the machine; D is one of its words
-	shards [size]word[V] // by their numbers
+	words  *mach.Mach     // the machine; D is one of its words
+	shards [Words]word[V] // by their numbers
 	part   func(whole V, level, i int) V
 }
+
+// Words is how many words of a machine the shards take, its first ones: D, and 2^k
+// of each level k.
+const Words = 2 << api.MaxLevel
 
 // Found is a shard as it was read: what it holds, and what a Swap asks for.
 type Found[V any] struct {
@@ -22,11 +27,11 @@ type Found[V any] struct {
 	number uint64
 }
 
-// New: one shard of level 0, which holds first. part tells what of whole lies in
-// the shard i of a level; whole itself must stay as it is.
-func New[V any](first V, part func(whole V, level, i int) V) *Shards[V] {
-	// So many words can be made: there is no fault.
-	words, _ := mach.New(size)
+// New: one shard of level 0, which holds first. The first words of the machine are
+// the shards' from then on, and must be 0; those behind them are the caller's. part
+// tells what of whole lies in the shard i of a level; whole itself must stay as it
+// is.
+func New[V any](words *mach.Mach, first V, part func(whole V, level, i int) V) *Shards[V] {
 	s := &Shards[V]{words: words, part: part}
 	for number := range s.shards {
 		s.shards[number] = word[V]{words: words, number: number}
@@ -35,8 +40,20 @@ func New[V any](first V, part func(whole V, level, i int) V) *Shards[V] {
 	return s
 }
 
-// Steps: how many accesses were done, but for the one with which New put the
-// first shard.
+// Part is how things that lie by their keys are parted: those of the shard i of a
+// level.
+func Part[V any](whole map[string]V, level, i int) map[string]V {
+	part := map[string]V{}
+	for key, value := range whole {
+		if placeOf(hash.Sum([]byte(key)), level).i == i {
+			part[key] = value
+		}
+	}
+	return part
+}
+
+// Steps: how many accesses were done on the machine, but for the one with which New
+// put the first shard.
 func (s *Shards[V]) Steps() int { return s.words.Count() - 1 }
 
 // Level: at which level the shards are, or from which one they are moving.
@@ -91,8 +108,9 @@ func (s *Shards[V]) freeze(who int, f Found[V]) bool {
 
 func (s *Shards[V]) word(at place) *word[V] { return &s.shards[at.number()] }
 
-// readLevel is the Load of D.
-func (s *Shards[V]) readLevel(who int) (int, bool) {
+// ReadLevel is the Load of D: at which level the shards are, or from which one they
+// are moving.
+func (s *Shards[V]) ReadLevel(who int) (int, bool) {
 	d, _ := s.words.Load(who, theLevel)
 	return levelOf(d)
 }
@@ -128,9 +146,6 @@ func (f Found[V]) isFrozen() bool { return f.number >= frozen }
 
 // theLevel is the number of the word D; those of the shards stand behind it.
 const theLevel = 0
-
-// size is how many words there are: D, and 2^k of each level k.
-const size = 2 << api.MaxLevel
 
 // place is where a shard stands: the shard i of a level.
 type place struct {

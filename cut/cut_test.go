@@ -5,6 +5,7 @@ import (
 	"testing"
 
 	"spigot/api"
+	"spigot/hash"
 	"spigot/mach"
 )
 
@@ -19,6 +20,12 @@ func part(whole []int, level, i int) []int {
 		}
 	}
 	return list
+}
+
+// made are shards on a machine that has two words more.
+func made(first []int) *Shards[[]int] {
+	words, _ := mach.New(Words + 2)
+	return New(words, first, part)
 }
 
 // add puts a number behind those of its shard.
@@ -67,7 +74,7 @@ func wantHoldings(t *testing.T, s *Shards[[]int], want ...[]int) {
 }
 
 func TestShardsOfNumbers(t *testing.T) {
-	s := New([]int{5}, part)
+	s := made([]int{5})
 	wantHoldings(t, s, []int{5})
 	if s.Steps() != 0 {
 		t.Error("Steps =", s.Steps())
@@ -92,7 +99,7 @@ func TestShardsOfNumbers(t *testing.T) {
 // The words themselves, access by access: D is the word 0, R(0, 0) the word 1.
 func TestAccesses(t *testing.T) {
 	const cold = 1 << 62
-	s := New([]int{5}, part)
+	s := made([]int{5})
 	want(t, add(s, 3, 6), "added", 3)
 	late := add(s, 4, 8)
 	_, late = late()
@@ -124,7 +131,7 @@ func TestAccesses(t *testing.T) {
 // What is told of shards that aren't there yet, some of them being there; and what
 // was found stays as it is, whatever becomes of the shard.
 func TestHoldingsOfMoving(t *testing.T) {
-	s := New([]int{1, 2, 3, 4}, part)
+	s := made([]int{1, 2, 3, 4})
 	var found []int
 	look := Find(s, 1, 2, func(f Found[[]int]) (string, Step[string]) {
 		found = f.Holds
@@ -157,9 +164,77 @@ func TestHoldingsOfMoving(t *testing.T) {
 	}
 }
 
+// Things that lie by their keys are parted as hash.Shard says, and stay where they
+// are, too.
+func TestPart(t *testing.T) {
+	whole := map[string]int{}
+	for n := range 200 {
+		whole[string(rune(n))] = n
+	}
+	for level := range api.MaxLevel + 1 {
+		all := 0
+		for i := range 1 << level {
+			part := Part(whole, level, i)
+			for key, n := range part {
+				if at, _ := hash.Shard([]byte(key), level); at != i || whole[key] != n {
+					t.Error(level, i, key, n)
+				}
+			}
+			all += len(part)
+		}
+		if all != len(whole) || all != 200 {
+			t.Error(level, all)
+		}
+	}
+	one := Part(map[string]int{"a": 5}, 0, 0)
+	one["b"] = 6
+	if part := Part(one, 1, 0); part == nil || len(part)+len(Part(one, 1, 1)) != 2 {
+		t.Error(part)
+	}
+}
+
+// The words behind those of the shards are the caller's: an access to them is a step
+// as any other one, and changes nothing of the shards.
+func TestWordsBehind(t *testing.T) {
+	words, _ := mach.New(Words + 2)
+	s := New(words, []int{5}, part)
+	for word := Words; word < Words+2; word++ {
+		if value, e := words.Load(0, word); value != 0 || e != api.OK {
+			t.Error(word, value, e)
+		}
+		words.Swap(0, word, 0, 77)
+	}
+	if s.Steps() != 4 {
+		t.Error("Steps =", s.Steps())
+	}
+	for range 4 {
+		want(t, splitAll(s, 0), "split", map[int]int{4: 9, 13: 15, 28: 27, 55: 51}[s.Steps()])
+	}
+	for word := Words; word < Words+2; word++ {
+		if value, _ := words.Word(word); value != 77 {
+			t.Error(word, value)
+		}
+	}
+}
+
+func TestReadLevel(t *testing.T) {
+	s := made(nil)
+	next := splitAll(s, 0)
+	for n := range 9 {
+		level, moving := s.ReadLevel(1)
+		if level != 0 || moving != (n >= 2) {
+			t.Error(n, level, moving)
+		}
+		_, next = next()
+	}
+	if level, moving := s.ReadLevel(63); level != 1 || moving || s.Steps() != 9+10 {
+		t.Error(level, moving, s.Steps())
+	}
+}
+
 // made is asked only where the Swap is done.
 func TestChangeThatIsNotDone(t *testing.T) {
-	s := New([]int{1}, part)
+	s := made([]int{1})
 	var f Found[[]int]
 	alone(Find(s, 0, 1, func(found Found[[]int]) (string, Step[string]) {
 		f = found
@@ -191,7 +266,7 @@ func TestPlaces(t *testing.T) {
 			}
 		}
 	}
-	if number != size {
-		t.Error(number, size)
+	if number != Words {
+		t.Error(number, Words)
 	}
 }

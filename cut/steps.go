@@ -29,7 +29,7 @@ func Find[V, R any](s *Shards[V], who int, sum uint64, found func(Found[V]) (R, 
 
 // begin reads D. Where the shards are moving, whoever comes by helps.
 func (w way[V, R]) begin() (R, Step[R]) {
-	level, moving := w.shards.readLevel(w.who)
+	level, moving := w.shards.ReadLevel(w.who)
 	if !moving {
 		return goOn(w.look(placeOf(w.sum, level)))
 	}
@@ -103,7 +103,7 @@ func Split[V, R any](s *Shards[V], who int, returns func(api.Errno) R) Step[R] {
 }
 
 func (c split[V, R]) begin() (R, Step[R]) {
-	level, moving := c.shards.readLevel(c.who)
+	level, moving := c.shards.ReadLevel(c.who)
 	switch {
 	case moving:
 		return goOn(c.cut(place{level, 0}))

@@ -13,7 +13,7 @@ type word[V any] struct {
 // frozen is added to the number of a version that never changes again.
 const frozen uint64 = 1 << 62
 
-// load reads the word. Here and below: New has made it, and who is a worker, so
+// load reads the word. Here and below: the machine has it, and who is a worker, so
 // that no access fails.
 func (w *word[V]) load(who int) (uint64, V) {
 	version, _ := w.words.Load(who, w.number)

@@ -41,15 +41,15 @@ func made(t *testing.T) *Dir {
 }
 
 func wantStart(t *testing.T, d *Dir, who int, op byte, key string, value int64, want api.Errno) {
-	t.Helper()
 	if got := d.Start(who, op, []byte(key), value); got != want {
+		t.Helper()
 		t.Errorf("Start(%d, %d, %.20q, %d) = %d, not %d", who, op, key, value, got, want)
 	}
 }
 
 func wantStep(t *testing.T, d *Dir, who int, want Result, fault api.Errno) {
-	t.Helper()
 	if got, gotFault := d.Step(who); got != want || gotFault != fault {
+		t.Helper()
 		t.Errorf("Step(%d) = %v, %d, not %v, %d", who, got, gotFault, want, fault)
 	}
 }
@@ -86,23 +86,23 @@ func leave(t *testing.T, d *Dir, who int, op byte, key string, value int64, step
 }
 
 func wantPending(t *testing.T, d *Dir, who int, want bool) {
-	t.Helper()
 	if got := d.Pending(who); got != want {
+		t.Helper()
 		t.Errorf("Pending(%d) = %v, not %v", who, got, want)
 	}
 }
 
 func wantLevel(t *testing.T, d *Dir, level int, moving bool) {
-	t.Helper()
 	if got, gotMoving := d.Level(); got != level || gotMoving != moving {
+		t.Helper()
 		t.Errorf("Level = %d, %v, not %d, %v", got, gotMoving, level, moving)
 	}
 }
 
 func wantEntries(t *testing.T, d *Dir, want ...Entry) {
-	t.Helper()
 	got := d.Entries()
 	if !slices.EqualFunc(got, want, func(a, b Entry) bool { return bytes.Equal(a.Key, b.Key) && a.Value == b.Value }) {
+		t.Helper()
 		t.Errorf("Entries = %v, not %v", got, want)
 	}
 }

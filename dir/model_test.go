@@ -227,14 +227,12 @@ type watched struct {
 }
 
 func watch(t *testing.T) *watched {
-	t.Helper()
 	return &watched{Dir: made(t), model: newModel()}
 }
 
 func isTick(n int64) bool { return n >= 0 && n <= api.Max }
 
 func (w *watched) start(t *testing.T, who int, op byte, key string, value int64) {
-	t.Helper()
 	want := api.OK
 	switch {
 	case who < 0 || who >= 64 || op < 1 || op > 4 || op == Put && !isTick(value):
@@ -251,7 +249,6 @@ func (w *watched) start(t *testing.T, who int, op byte, key string, value int64)
 
 // step: what is answered, and what the call has done, as if at once.
 func (w *watched) step(t *testing.T, who int) {
-	t.Helper()
 	at := w.work[who]
 	switch {
 	case who < 0 || who >= 64:
@@ -281,7 +278,6 @@ func (w *watched) step(t *testing.T, who int) {
 
 // hold holds what the directory tells against what was told.
 func (w *watched) hold(t *testing.T) {
-	t.Helper()
 	var want []Entry
 	for _, key := range slices.Sorted(maps.Keys(w.plain)) {
 		want = append(want, at(key, w.plain[key]))

@@ -3,12 +3,21 @@ package dir
 import (
 	"maps"
 	"math/rand"
+	"os"
+	"runtime/debug"
 	"slices"
 	"testing"
 
 	"spigot/api"
 	"spigot/hash"
 )
+
+// Each order is played on things of its own, which are soon given up: to look for
+// them as often as Go does takes more time than the orders.
+func TestMain(m *testing.M) {
+	debug.SetGCPercent(800)
+	os.Exit(m.Run())
+}
 
 // P15.1 to P15.3
 
@@ -73,7 +82,6 @@ type scene struct {
 }
 
 func (s scene) begin(t *testing.T) *watched {
-	t.Helper()
 	w := watch(t)
 	alone := func(c asked) {
 		w.start(t, 9, c.op, c.key, c.value)

@@ -12,19 +12,7 @@ type step = cut.Step[Result]
 // entries are those of a shard. There is no limit of them, so that they aren't
 // copied for each new version: the one whose Swap is done changes them where they
 // are. What is frozen nobody changes.
-type entries map[string]int64
-
-// part: those that lie in the shard i of a level.
-func (e entries) part(level, i int) entries {
-	part := entries{}
-	for key, value := range e {
-		// All levels are in range: there is no fault.
-		if at, _ := hash.Shard([]byte(key), level); at == i {
-			part[key] = value
-		}
-	}
-	return part
-}
+type entries = map[string]int64
 
 // call is a Get, a Put or a Drop.
 type call struct {
